@@ -1,0 +1,104 @@
+"""Things to hand in, and the checks that tests of every file share."""
+
+import copy
+
+GREAT = 10 ** 49 + 7
+
+
+def nothings():
+    """Things that are neither an order, nor a number, a row or a pattern."""
+    return [
+        None, True, False, "1", "1 2 3", "(1, 2)", "U", "ud ", "u\n", "u1",
+        [], [1], [1, 2], [2, 1, 3], ["u"], [[1]], [(1,)],
+        {}, {1: 1}, {1: 2, 2: 1}, {"u": "d"}, {(1, 2): [1]},
+        (), (None,), (True,), (False,), ("1",), ("u", "d"), ((1,),), ([1],), ({},), ((),),
+        (True, 2), (2, True), (False, 1), (1, None), (2, "1"), (1, (2,)), (1, [2], 3), (1, {2: 2}),
+        (1, 2, True), (True, False), ((((1,),),),), ([[[1]]],),
+        tuple(range(1, 42)), tuple(range(1, 401)), [None] * 900, "u" * 40, "?" * 300,
+    ]
+
+
+def wrong_numbers():
+    """Things that are no whole number, and whole numbers that are too great or too small."""
+    return nothings() + ["", "u", (1,), (1, 2), (2, 1, 3), -1, -2, GREAT, -GREAT]
+
+
+def wrong_rows():
+    """Things that are no row."""
+    rows = nothings() + ["", "u", 0, 1, 2, -1, GREAT]
+    rows += [(1, 1), (2, 1, 2), (0, 0), (GREAT, 5, GREAT), (1,) * 40, (-3, -3)]
+    for good in ((4, -2, 0, GREAT, 1), tuple(range(-20, 20))):
+        rows += with_one_otherwise(good, [good[0]], [good[1]])
+    return rows
+
+
+def wrong_orders():
+    """Things that are no order."""
+    orders = wrong_rows()
+    orders += [(0,), (2,), (-1,), (GREAT,), (0, 1), (1, 3), (2, 3, 4), (3, 1), (1, 2, 4), (1, 2, GREAT)]
+    for good in ((1,), (2, 1), (3, 1, 4, 5, 2), tuple(range(1, 41)), tuple(range(40, 0, -1))):
+        orders += with_one_otherwise(good, [0, -1, len(good) + 1], [0, -1, len(good) + 1])
+    return orders
+
+
+def with_one_otherwise(good, first, others):
+    """The tuple with one thing otherwise, at each place: the first place has its own things."""
+    found = []
+    for at in range(len(good)):
+        twins = {0: [False], 1: [True]}.get(good[at], [])
+        for thing in twins + [None, True, False, str(good[at]), (good[at],), [good[at]], {}]:
+            found.append(good[:at] + (thing,) + good[at + 1:])
+        for thing in others if at == 0 else first:
+            found.append(good[:at] + (thing,) + good[at + 1:])
+    return found
+
+
+def wrong_patterns():
+    """Things that are no pattern."""
+    texts = ["U", "D", "x", " ", "u d", "ud-", "-", "ud?!", "u" * 40, "?" * 40, "ud" * 20, "ud" * 150]
+    for at in range(0, 39, 6):
+        for sign in ("U", " ", "1", "*", "ud"):
+            texts.append("u" * at + sign + "?" * (38 - at))
+    return nothings() + texts + [0, 1, -1, GREAT, (1,), (1, 2), ("u",), ["u", "d"]]
+
+
+def alternating(length):
+    """An up-down of so many numbers: the lesser half and the greater half by turns."""
+    half = (length + 1) // 2
+    return tuple(at // 2 + 1 if at % 2 == 0 else half + at // 2 + 1 for at in range(length))
+
+
+def refused(test, refusal, asked, *handed):
+    """What is handed in is refused with this class and no other one, and left as it was."""
+    ahead = copy.deepcopy(handed)
+    try:
+        told = asked(*handed)
+    except Exception as error:
+        test.assertIs(type(error), refusal, f"{asked.__name__}{handed!r}")
+    else:
+        test.fail(f"{asked.__name__}{handed!r} told {told!r}")
+    test.assertEqual(repr(handed), repr(ahead))
+
+
+def told_anew(test, asked, *handed):
+    """What is told can be changed by the asker, lists within lists too, and is told again as ahead."""
+    told = asked(*handed)
+    kept = copy.deepcopy(told)
+    spoil(told)
+    test.assertNotEqual(told, kept)
+    test.assertEqual(asked(*handed), kept)
+
+
+def spoil(told):
+    """Change a list or a dict that was told, and the lists within it."""
+    if isinstance(told, dict):
+        for key in list(told):
+            told[key] = -5
+        told["more"] = 1
+        return
+    for part in told:
+        if isinstance(part, list):
+            spoil(part)
+    if told:
+        told[0] = -5
+    told.append("more")

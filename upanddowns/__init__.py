@@ -1,0 +1,1 @@
+"""Upanddowns: orders that go up and down by turns."""

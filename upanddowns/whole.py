@@ -1,0 +1,17 @@
+"""Whole numbers, and the refusal of what is none."""
+
+from upanddowns.errors import NoNumber
+
+
+def is_whole(thing):
+    """Whether a thing is a whole number."""
+    # True and False are ints to Python, but no numbers here.
+    return isinstance(thing, int) and not isinstance(thing, bool)
+
+
+def need_number(thing, least, most):
+    """Refuse what is no whole number from least to most."""
+    if not is_whole(thing):
+        raise NoNumber("this is no whole number")
+    if thing < least or thing > most:
+        raise NoNumber(f"the number is not from {least} to {most}")
