@@ -1,6 +1,7 @@
 """Things to hand in, and the checks that tests of every file share."""
 
 import copy
+from itertools import permutations
 
 GREAT = 10 ** 49 + 7
 
@@ -41,14 +42,59 @@ def wrong_orders():
     return orders
 
 
-def with_one_otherwise(good, first, others):
+def wrong_updowns():
+    """Things that are no up-down, orders that do not go up and down among them."""
+    long = alternating(40)
+    orders = [(2, 1), (1, 2, 3), (3, 2, 1), (2, 1, 3), (3, 1, 2), (1, 3, 4, 2), (2, 1, 4, 3)]
+    orders += [tuple(range(1, 41)), tuple(range(40, 0, -1)), tuple(41 - number for number in long)]
+    return wrong_orders() + orders + [long[:38] + (long[39], long[38]), long[::-1]]
+
+
+def wrong_trees():
+    """Things that are no tree."""
+    trees = wrong_orders() + [(1,), (2, 1), (2, 3, 1), (0, 0), (((0, 0),),), [(0, 0)], ([0, 0],)]
+    trees += [((0, 0, 0),), ((0,),), ((0, 1),), ((1, 0),), ((0, -1),), ((GREAT, 0),), ((1, 1),)]
+    trees += [
+        ((0, 0), (0, 0)), ((2, 0), (0, 0)), ((0, 0), (1, 1)), ((0, 0), (2, 0)), ((0, 0), (1, 2)),
+        ((0, 0), (1, 0), (1, 2)), ((0, 0), (1, 0), (0, 0)), ((0, 0), (1, 0), (0, 3)),
+        ((0, 0), (3, 0), (1, 0)), ((2, 0), (1, 0), (0, 0)), ((0, 0), (0, 0), (2, 2)),
+        ((0, 0), (0, 0), (1, 2), (3, 2)), ((0, 0), (0, 0), (1, 2), (-3, 3)), {1: (0, 0)}, "0/0",
+    ]
+    trees += [chain(41), chain(60), list(chain(3)), chain(40)[:-1] + ((0, 0),), ((0, 0),) * 40]
+    for good in (((0, 0),), ((0, 0), (0, 0), (2, 1)), chain(40)):
+        for at in range(len(good)):
+            left, right = good[at]
+            for pair in ([left, right], (left,), (left, right, 0), (left, None), (str(left), right), (),
+                         (left, bool(right)), (False, right), {left: right}, left, None, "00", ((left,), right),
+                         (left, -1), (left, len(good)), (len(good) + 1, right), (left, at + 1)):
+                trees.append(good[:at] + (pair,) + good[at + 1:])
+    return trees
+
+
+def chain(length):
+    """A tree in which each number but the first has the one below it on its right."""
+    return tuple((0, number) for number in range(length))
+
+
+def wrong_looses():
+    """Things that are no loose tree."""
+    found = [thing for thing in nothings() if thing != ()]
+    found += ["", "-", 0, 1, -1, GREAT, (0,), (2,), (-1,), (GREAT,), (1, 0), (1, 3), (1, 2, 4), (2, 1), (1, -2)]
+    found += [(1, 1, 1), (1, 2, 2, 2), (1, 2, 1, 1), (1, 1, 2, 3, 2, 2), (1,) * 39, tuple(range(1, 41))]
+    found += [tuple(range(1, 39)) + (40,), list(range(1, 40)), (1, 1) + tuple(range(1, 38))]
+    for good in ((1,), (1, 1), (1, 2, 3), tuple(range(1, 40))):
+        found += with_one_otherwise(good, [0, -1, len(good) + 1], [0, -1, 2])
+    return found
+
+
+def with_one_otherwise(good, behind, first):
     """The tuple with one thing otherwise, at each place: the first place has its own things."""
     found = []
     for at in range(len(good)):
         twins = {0: [False], 1: [True]}.get(good[at], [])
         for thing in twins + [None, True, False, str(good[at]), (good[at],), [good[at]], {}]:
             found.append(good[:at] + (thing,) + good[at + 1:])
-        for thing in others if at == 0 else first:
+        for thing in first if at == 0 else behind:
             found.append(good[:at] + (thing,) + good[at + 1:])
     return found
 
@@ -66,6 +112,22 @@ def alternating(length):
     """An up-down of so many numbers: the lesser half and the greater half by turns."""
     half = (length + 1) // 2
     return tuple(at // 2 + 1 if at % 2 == 0 else half + at // 2 + 1 for at in range(length))
+
+
+def goes_up_and_down(order):
+    return all((order[at] < order[at + 1]) == (at % 2 == 0) for at in range(len(order) - 1))
+
+
+def up_downs(n):
+    """All up-downs of n by going through all orders, as tuples compare."""
+    return [order for order in permutations(range(1, n + 1)) if goes_up_and_down(order)]
+
+
+def some_numbers(many):
+    """Some of the numbers from 0 on below so many, at both ends and between."""
+    last = many - 1
+    found = {0, 1, 2, last // 9, last // 7, last // 3, last // 2, last - last // 5, last - 2, last - 1, last}
+    return sorted(number for number in found if 0 <= number <= last)
 
 
 def refused(test, refusal, asked, *handed):
@@ -93,6 +155,8 @@ def spoil(told):
     """Change a list or a dict that was told, and the lists within it."""
     if isinstance(told, dict):
         for key in list(told):
+            if isinstance(told[key], list):
+                spoil(told[key])
             told[key] = -5
         told["more"] = 1
         return

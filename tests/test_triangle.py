@@ -1,21 +1,12 @@
 import unittest
-from itertools import permutations
 from math import comb
 
-from anything import refused, told_anew, wrong_numbers
+from anything import refused, told_anew, up_downs, wrong_numbers
 from upanddowns import triangle
 from upanddowns.errors import NoNumber
 from upanddowns.triangle import all_many, falls, many, row, table
 
 ALL = (row, many, all_many, falls, table)
-
-
-def goes_up_and_down(order):
-    return all((order[at] < order[at + 1]) == (at % 2 == 0) for at in range(len(order) - 1))
-
-
-def up_downs(n):
-    return [order for order in permutations(range(1, n + 1)) if goes_up_and_down(order)]
 
 
 def many_by_choosing(most):

@@ -1,6 +1,6 @@
 """Orders, their turns, and what is made of an order."""
 
-from upanddowns.errors import NoNumber, NoOrder, NoRow
+from upanddowns.errors import NoNumber, NoOrder, NoRow, NotUpDown
 from upanddowns.whole import is_whole, need_number
 
 MOST = 40
@@ -60,6 +60,12 @@ def is_updown(thing):
 def is_downup(thing):
     """Whether a thing is a down-up."""
     return goes_by_turns(thing, "du")
+
+
+def need_updown(thing):
+    """Refuse what is no up-down."""
+    if not is_updown(thing):
+        raise NotUpDown("an up-down is an order that goes up, down, up, down and so on")
 
 
 def turned_over(order):
