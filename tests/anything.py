@@ -87,6 +87,35 @@ def wrong_looses():
     return found
 
 
+def wrong_rings():
+    """Things that are no ring: an odd number of numbers, the greatest not ahead, no turns among them."""
+    rings = wrong_orders() + [(1,), (1, 2), (3, 1, 2), (5, 1, 4, 2, 3), (4, 1, 2, 3), (4, 3, 2, 1), (4, 3, 1, 2)]
+    # The first of these goes up from its last to its first number, the second one does not.
+    rings += [(3, 1, 4, 2), (2, 1, 4, 3), (3, 2, 4, 1), (1, 3, 2, 4), (2, 3, 1, 4), (0, 2), (3, 1)]
+    long = (40,) + alternating(39)
+    rings += [long[2:] + long[:2], long[1:] + long[:1], long[:38] + (long[39], long[38]), (39,) + alternating(38)]
+    rings += [(42,) + alternating(41), alternating(40), tuple(41 - number for number in long)]
+    rings += [list(long), [2, 1], [4, 1, 3, 2], {2: 1}, "2 1"]
+    for good in ((2, 1), (4, 1, 3, 2), long):
+        rings += with_one_otherwise(good, [0, -1, len(good)], [0, -1, len(good) + 1, 1, len(good) - 1])
+    return rings
+
+
+def wrong_fractions():
+    """Things that are no fraction."""
+    fractions = nothings() + [(2, 4), (0, 2), (0, 0), (1, 0), (1, -1), (-1, -2), (1, -2), (0, -1), (6, 9), (-6, 9)]
+    fractions += [(1,), (1, 2, 3), (1, 2, 1), [1, 2], {1: 2}, "1/2", "1", "-", 1, 0, -1, ((1, 2),), ((1, 2), (1, 2))]
+    fractions += [(999999999, 3), (500000000, 2), (999999999, 999999999), (-10, 1000), (7, 49), (GREAT, GREAT)]
+    for good in ((1, 2), (-3, 4), (0, 1), (7, 1), (999999999, 999999998)):
+        fractions += with_one_otherwise(good, [0, -1, -good[1]], [])
+    return fractions
+
+
+def no_texts():
+    """Things that are no text."""
+    return [thing for thing in wrong_trees() + [0, 1, 2, -1, GREAT, (1, 2), (2, 1)] if not isinstance(thing, str)]
+
+
 def with_one_otherwise(good, behind, first):
     """The tuple with one thing otherwise, at each place: the first place has its own things."""
     found = []

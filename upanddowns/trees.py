@@ -3,14 +3,7 @@
 from upanddowns.ends import ways_with
 from upanddowns.errors import NoTree
 from upanddowns.orders import MOST, is_updown, need_order
-from upanddowns.whole import is_whole, need_number
-
-
-def is_pair(thing):
-    """Whether a thing is a tuple of two whole numbers."""
-    if not isinstance(thing, tuple) or len(thing) != 2:
-        return False
-    return all(is_whole(number) for number in thing)
+from upanddowns.whole import is_pair, need_number
 
 
 def is_tree(thing):

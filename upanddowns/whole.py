@@ -9,6 +9,13 @@ def is_whole(thing):
     return isinstance(thing, int) and not isinstance(thing, bool)
 
 
+def is_pair(thing):
+    """Whether a thing is a tuple of two whole numbers."""
+    if not isinstance(thing, tuple) or len(thing) != 2:
+        return False
+    return all(is_whole(number) for number in thing)
+
+
 def need_number(thing, least, most):
     """Refuse what is no whole number from least to most."""
     if not is_whole(thing):
